@@ -1,0 +1,1 @@
+"""Narrowkeys: the fewest and cheapest indexes for questions to a table."""

@@ -1,0 +1,57 @@
+import importlib
+import inspect
+import unittest
+
+FUNCTIONS = {
+    "words": {
+        "is_integer": "(thing)", "is_column": "(thing)", "are_columns": "(thing)", "is_question": "(thing)",
+        "is_index": "(thing)", "is_weight": "(thing)",
+    },
+    "questions": {
+        "asking": "(*columns, last='')", "columns_of": "(question)", "width": "(question)",
+        "is_plain": "(question)", "is_below": "(one, other)", "can_share": "(one, other)",
+        "split_pair": "(questions)",
+    },
+}
+
+METHODS = {
+    ("shelves", "Shelf"): {
+        "__init__": "(self, indexes)", "__eq__": None, "__add__": None, "__len__": None, "__contains__": None,
+        "__iter__": None, "__getitem__": None, "indexes": "(self)", "columns": "(self)",
+        "with_index": "(self, index)", "without": "(self, number)", "renamed": "(self, names)",
+    },
+}
+
+ERRORS = {
+    "Wrong": "(place)", "Apart": "(pair)", "TooMany": "(limit)", "NoQuestion": "(question)",
+    "NoNumber": "(number)", "Unserved": "(question)", "NoOrder": "(pair)", "NoColumn": "(column)",
+    "Full": "(limit)", "Refused": "(deed)", "NoEntry": "(many)",
+}
+
+
+class InterfaceTest(unittest.TestCase):
+    def test_functions_stand_in_their_files(self):
+        for name, functions in FUNCTIONS.items():
+            module = importlib.import_module(f"narrowkeys.{name}")
+            for function, signature in functions.items():
+                found = getattr(module, function)
+                self.assertEqual(f"narrowkeys.{name}", found.__module__)
+                self.assertEqual(signature, str(inspect.signature(found)), function)
+
+    def test_methods_stand_in_their_classes(self):
+        for (name, kind), methods in METHODS.items():
+            found = getattr(importlib.import_module(f"narrowkeys.{name}"), kind)
+            self.assertEqual(f"narrowkeys.{name}", found.__module__)
+            for method, signature in methods.items():
+                self.assertIn(method, vars(found))
+                if signature is not None:
+                    self.assertEqual(signature, str(inspect.signature(vars(found)[method])), method)
+
+    def test_errors_take_their_arguments(self):
+        module = importlib.import_module("narrowkeys.errors")
+        for name, signature in ERRORS.items():
+            self.assertEqual(signature, str(inspect.signature(getattr(module, name))), name)
+
+
+if __name__ == "__main__":
+    unittest.main()
