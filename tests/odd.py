@@ -1,8 +1,10 @@
 """Values of any kind for the tests of wrong inputs, and plain searches to compare answers with."""
 
+import random
 from itertools import combinations, permutations
 
 import narrowkeys.errors as errors
+from narrowkeys.asked import Asked
 from narrowkeys.shelves import Shelf
 
 
@@ -36,6 +38,7 @@ def odd_values():
         ("a", "a"), ("a", ""), ("",), ("A",), ("a", 1), ("a", []), ("a", ["b"]), ("a", {}), (True,), (None,),
         object(), Same(), len, int, str, sorted, odd_values, lambda: 0, range(3), iter([]), Exception("a"),
         errors.KeysError(), errors.Wrong(0), errors.Wrong, Shelf([]), Shelf([("a",)]), Shelf, (Shelf([]),),
+        Asked([]), Asked([((), "a")]), Asked, (Asked([]),), (Asked([]), ""), ((), Asked([])), [Asked([])],
         (Shelf([]), ""), ((), Shelf([])), ((Shelf([]),), "a"), (Same(), ""), ((), Same()), ((Same(),), "a"),
         deep("a"), deep(("a",)), deep([]), deep(Same()), (deep("a", 36), ""), ((), deep("a", 36)),
         ((deep("a", 36),), "a"), [0] * 19999, tuple(range(19999)), (tuple(range(19990)), "a"),
@@ -75,8 +78,26 @@ def all_questions(columns):
     return sorted(found)
 
 
+def all_share(questions):
+    """Whether each two of questions can share, by the words of the definition of below."""
+    for one, other in combinations(sorted(set(questions)), 2):
+        if not set(one[0]) | {one[1]} - {""} <= set(other[0]):
+            if not set(other[0]) | {other[1]} - {""} <= set(one[0]):
+                return False
+    return True
+
+
 def fits(index, question):
     """Whether index serves question, by the words of the definition."""
     asked, last = question
     front, behind = index[:len(asked)], index[len(asked):len(asked) + 1]
     return sorted(front) == sorted(asked) and (last == "" or behind == (last,))
+
+
+def samples(many):
+    """Lists of indexes and of questions, the same ones in each run."""
+    chance = random.Random(7)
+    indexes, questions = all_indexes("abcd"), all_questions("abcd")
+    for _ in range(many):
+        row = [chance.choice(indexes) for _ in range(chance.randrange(7))]
+        yield row, sorted(set(chance.choice(questions) for _ in range(chance.randrange(9))))

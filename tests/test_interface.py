@@ -12,9 +12,28 @@ FUNCTIONS = {
         "is_plain": "(question)", "is_below": "(one, other)", "can_share": "(one, other)",
         "split_pair": "(questions)",
     },
+    "indexes": {
+        "serves": "(index, question)", "first_fault": "(index, question)", "questions_of": "(index)",
+        "index_for": "(questions)",
+    },
+    "serving": {
+        "is_served": "(shelf, question)", "place_of": "(shelf, question)", "faults": "(shelf, question)",
+        "places": "(shelf, asked)", "idle": "(shelf, asked)", "droppable": "(shelf, asked)",
+        "unserved": "(shelf, asked)",
+    },
+    "families": {"served": "(shelf)", "served_pairs": "(shelf)", "count_served": "(shelf)"},
+    "forced": {
+        "forces": "(one, other)", "forced": "(question)", "implied": "(asked)", "why_implied": "(asked, question)",
+    },
 }
 
 METHODS = {
+    ("asked", "Asked"): {
+        "__init__": "(self, questions)", "__eq__": None, "__or__": None, "__and__": None, "__sub__": None,
+        "__len__": None, "__contains__": None, "__iter__": None, "questions": "(self)", "columns": "(self)",
+        "within": "(self, other)", "with_question": "(self, question)", "without": "(self, question)",
+        "renamed": "(self, names)",
+    },
     ("shelves", "Shelf"): {
         "__init__": "(self, indexes)", "__eq__": None, "__add__": None, "__len__": None, "__contains__": None,
         "__iter__": None, "__getitem__": None, "indexes": "(self)", "columns": "(self)",
