@@ -5,7 +5,9 @@ from itertools import combinations, permutations
 
 import narrowkeys.errors as errors
 from narrowkeys.asked import Asked
+from narrowkeys.lots import Lot
 from narrowkeys.shelves import Shelf
+from narrowkeys.weights import Weights
 
 
 class Same:
@@ -40,6 +42,8 @@ def odd_values():
         errors.KeysError(), errors.Wrong(0), errors.Wrong, Shelf([]), Shelf([("a",)]), Shelf, (Shelf([]),),
         Asked([]), Asked([((), "a")]), Asked, (Asked([]),), (Asked([]), ""), ((), Asked([])), [Asked([])],
         (Shelf([]), ""), ((), Shelf([])), ((Shelf([]),), "a"), (Same(), ""), ((), Same()), ((Same(),), "a"),
+        Lot([], []), Lot([1], []), Lot, [Lot([1], [])], (Lot([1], []), ""), ([], Lot([], [])), [[Lot([1], [])]],
+        Weights({}), Weights({"a": 2}), Weights, [Weights({})], ((), Weights({})), {"a": Weights({})}, ("a", Weights({})),
         deep("a"), deep(("a",)), deep([]), deep(Same()), (deep("a", 36), ""), ((), deep("a", 36)),
         ((deep("a", 36),), "a"), [0] * 19999, tuple(range(19999)), (tuple(range(19990)), "a"),
     ]
@@ -60,6 +64,12 @@ def no_indexes():
 def no_numbers(many):
     """Values that are no integers from 0 to many less one."""
     return [*odd_values(), "", "0", "a", ("a",), many, many + 1, -many, 10 ** 30]
+
+
+def no_weights(greatest):
+    """Values that are no integers from 1 to greatest."""
+    found = [thing for thing in odd_values() if isinstance(thing, bool) or not isinstance(thing, int)]
+    return [*found, 0, -1, greatest + 1, -greatest, "", "1", "a", [1], (1,), {1: 1}, [[1]]]
 
 
 def all_indexes(columns):

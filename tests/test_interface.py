@@ -25,6 +25,18 @@ FUNCTIONS = {
     "forced": {
         "forces": "(one, other)", "forced": "(question)", "implied": "(asked)", "why_implied": "(asked, question)",
     },
+    "compared": {
+        "covers": "(one, other)", "alike": "(one, other)", "parting": "(one, other)", "needless": "(shelf)",
+        "pruned": "(shelf)",
+    },
+    "layers": {
+        "most_served": "(asked)", "longest": "(asked)", "layers": "(asked)", "is_longest": "(asked, thing)",
+        "is_layers": "(asked, thing)",
+    },
+    "fewest": {
+        "fewest": "(asked)", "fewest_shelf": "(asked)", "apart": "(asked)", "is_fewest": "(asked, thing)",
+        "is_apart": "(asked, thing)",
+    },
 }
 
 METHODS = {
@@ -38,6 +50,16 @@ METHODS = {
         "__init__": "(self, indexes)", "__eq__": None, "__add__": None, "__len__": None, "__contains__": None,
         "__iter__": None, "__getitem__": None, "indexes": "(self)", "columns": "(self)",
         "with_index": "(self, index)", "without": "(self, number)", "renamed": "(self, names)",
+    },
+    ("lots", "Lot"): {
+        "__init__": "(self, weights, pairs)", "__eq__": None, "__len__": None, "weights": "(self)",
+        "pairs": "(self)", "levels": "(self)", "chains": "(self)", "apart_from": "(self, level)",
+        "is_above": "(self, high, low)", "is_chains": "(self, thing)", "is_paper": "(self, thing)",
+        "width": "(self)", "least_sum": "(self)", "paper": "(self)",
+    },
+    ("weights", "Weights"): {
+        "__init__": "(self, table)", "__eq__": None, "__getitem__": None, "__setitem__": None,
+        "__call__": "(self, thing)", "table": "(self)", "copied": "(self)",
     },
 }
 
