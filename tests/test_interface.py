@@ -37,6 +37,22 @@ FUNCTIONS = {
         "fewest": "(asked)", "fewest_shelf": "(asked)", "apart": "(asked)", "is_fewest": "(asked, thing)",
         "is_apart": "(asked, thing)",
     },
+    "orders": {
+        "count_orders": "(questions)", "order_at": "(questions, number)", "order_number": "(questions, index)",
+    },
+    "levels": {
+        "levels": "(asked, *, weights=None)", "least_cost": "(asked, *, weights=None)",
+        "apart_from": "(asked, level, *, weights=None)",
+    },
+    "narrow": {
+        "cost": "(shelf, *, weights=None)", "narrow_shelf": "(asked, *, weights=None)",
+        "narrow_paper": "(asked, *, weights=None)", "is_narrow": "(asked, thing, *, weights=None)",
+        "is_narrow_paper": "(asked, thing, *, weights=None)",
+    },
+    "wholes": {
+        "whole_range": "(asked, columns, *, weights=None)", "sure_wholes": "(asked, *, weights=None)",
+        "maybe_wholes": "(asked, *, weights=None)", "shelf_with": "(asked, columns, many, *, weights=None)",
+    },
 }
 
 METHODS = {

@@ -1,0 +1,77 @@
+"""How many indexes have just some columns in the shelves of the least cost.
+
+Such an index has just the columns of the greatest question that it serves, the top of a chain. Of
+questions of equal weight it is free which ones are linked first: those behind them are rather tops.
+"""
+
+from narrowkeys.laid import lot_of, shelf_of
+from narrowkeys.questions import columns_of
+
+
+def wholes_of(asked, columns):
+    """The numbers of the questions of asked that have just these columns."""
+    return [number for number, question in enumerate(asked) if columns_of(question) == columns]
+
+
+def ranks_of(many, ahead, behind):
+    """Ranks of so many things: first those ahead, in their order, at the end those behind, all alike."""
+    ranks = [len(ahead)] * many
+    for rank, number in enumerate(ahead):
+        ranks[number] = rank
+    for number in behind:
+        ranks[number] = len(ahead) + 1
+    return ranks
+
+
+def linked_first(lot, wholes):
+    """Those of wholes that are no tops if they are linked ahead of what weighs as much, in their order."""
+    links = lot.links(ranks_of(len(lot), wholes, []))
+    return [number for number in wholes if number in links]
+
+
+def linked_last(lot, wholes):
+    """Those of wholes that are no tops even if they are linked behind all that weighs as much."""
+    links = lot.links(ranks_of(len(lot), [], wholes))
+    return [number for number in wholes if number in links]
+
+
+def range_of(lot, wholes):
+    most_linked, least_linked = linked_first(lot, wholes), linked_last(lot, wholes)
+    return len(wholes) - len(most_linked), len(wholes) - len(least_linked)
+
+
+def whole_range(asked, columns, *, weights=None):
+    return range_of(lot_of(asked, weights), wholes_of(asked, columns))
+
+
+def ranges(asked, weights):
+    """Tuples (columns, least, most) for all columns of questions of asked, ascending."""
+    lot = lot_of(asked, weights)
+    found = []
+    for columns in sorted({columns_of(question) for question in asked}):
+        least, most = range_of(lot, wholes_of(asked, columns))
+        found.append((columns, least, most))
+    return found
+
+
+def sure_wholes(asked, *, weights=None):
+    return [columns for columns, least, _ in ranges(asked, weights) if least > 0]
+
+
+def maybe_wholes(asked, *, weights=None):
+    return [columns for columns, _, most in ranges(asked, weights) if most > 0]
+
+
+def shelf_with(asked, columns, many, *, weights=None):
+    lot = lot_of(asked, weights)
+    wholes = wholes_of(asked, columns)
+    least, most = range_of(lot, wholes)
+    if not least <= many <= most:
+        return None
+    # With these the other questions of the same weight can do all that all together can: so however
+    # many of wholes are linked ahead of the others, of those behind them no further one is linked.
+    needed = linked_last(lot, wholes)
+    row = linked_first(lot, [*needed, *[number for number in wholes if number not in needed]])
+    ahead = row[:len(wholes) - many]
+    behind = [number for number in wholes if number not in ahead]
+    return shelf_of(asked, lot.chains_by(ranks_of(len(lot), ahead, behind)))
