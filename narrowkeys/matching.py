@@ -55,7 +55,8 @@ def apart_among(things, ups, links):
     reached = {}
     waiting = [thing for thing in things if thing not in links]
     while len(waiting) > 0:
-        for high in ups[waiting.pop()]:
+        low = waiting.pop()
+        for high in ups[low]:
             if high not in reached:
                 reached[high] = True
                 waiting.append(lows[high])
