@@ -68,8 +68,8 @@ def shelf_with(asked, columns, many, *, weights=None):
     least, most = range_of(lot, wholes)
     if not least <= many <= most:
         return None
-    # With these the other questions of the same weight can do all that all together can: so however
-    # many of wholes are linked ahead of the others, of those behind them no further one is linked.
+    # Those that are linked even behind the others go first of all. With them the others of this weight
+    # give all further links that there can be, so that what is put behind the others is not linked.
     needed = linked_last(lot, wholes)
     row = linked_first(lot, [*needed, *[number for number in wholes if number not in needed]])
     ahead = row[:len(wholes) - many]
