@@ -16,7 +16,11 @@ def first_fault(index, question):
 
 
 def serves(index, question):
-    return first_fault(index, question) is None
+    columns, last = question
+    many = len(columns)
+    if last != "" and index[many:many + 1] != (last,):
+        return False
+    return tuple(sorted(index[:many])) == columns
 
 
 def questions_of(index):
@@ -32,15 +36,20 @@ def many_by_equality(question):
     return len(question[0])
 
 
-def index_for(questions):
-    pair = split_pair(questions)
-    if pair is not None:
-        raise Apart(pair)
-    found = []
-    # Of two that can share, the one with fewer columns by equality is below the other one;
-    # with equally many these are the same, and either order gives the same index.
-    for columns, last in sorted(questions, key=many_by_equality):
+def lengthened(front, questions):
+    """The index that begins with front, a tuple, and serves questions, each next one being above those ahead."""
+    found = list(front)
+    for columns, last in questions:
         for column in [*columns, last]:
             if column != "" and column not in found:
                 found.append(column)
     return tuple(found)
+
+
+def index_for(questions):
+    pair = split_pair(questions)
+    if pair is not None:
+        raise Apart(pair)
+    # Of two that can share, the one with fewer columns by equality is below the other one;
+    # with equally many these are the same, and either order gives the same index.
+    return lengthened((), sorted(questions, key=many_by_equality))

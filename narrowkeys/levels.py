@@ -1,15 +1,15 @@
 """How many questions of at least some weight are apart, and what a shelf costs at the least."""
 
-from narrowkeys.laid import lot_of, told
+from narrowkeys.laid import order_of, told
 
 
 def levels(asked, *, weights=None):
-    return lot_of(asked, weights).levels()
+    return order_of(asked, weights).counts()
 
 
 def least_cost(asked, *, weights=None):
-    return lot_of(asked, weights).least_sum()
+    return order_of(asked, weights).least()[1]
 
 
 def apart_from(asked, level, *, weights=None):
-    return told(asked, lot_of(asked, weights).apart_from(level))
+    return told(asked, order_of(asked, weights).apart_from(level))

@@ -1,16 +1,11 @@
 """Finite orders of things with weights: chains of the least sum, and things that are apart."""
 
 from narrowkeys.errors import NoOrder, TooMany, Wrong
-from narrowkeys.matching import apart_among, chains_of, linked
-from narrowkeys.steps import levels_of, sum_of_steps
-from narrowkeys.words import LIMIT, is_integer
+from narrowkeys.order import Order
+from narrowkeys.steps import is_for_each
+from narrowkeys.words import LIMIT, is_ascending, is_integer, is_number
 
 GREATEST = 10 ** 39
-
-
-def is_number(thing, many):
-    """Whether thing, any value, is the number of one of so many things."""
-    return is_integer(thing) and 0 <= thing < many
 
 
 def are_weights(thing):
@@ -25,11 +20,6 @@ def is_pair(thing, many):
 
 def are_pairs(thing, many):
     return isinstance(thing, (list, tuple)) and all([is_pair(one, many) for one in thing])
-
-
-def is_ascending(numbers):
-    """Whether numbers, a list, has each number once, in ascending order."""
-    return all([one < other for one, other in zip(numbers, numbers[1:])])
 
 
 def ups_of(many, pairs):
@@ -65,6 +55,7 @@ class Lot:
             raise NoOrder(pair)
         self._weights = list(weights)
         self._ups = ups
+        self._order = Order(self._weights, ups)
 
     def __eq__(self, other):
         return isinstance(other, Lot) and self._weights == other._weights and self._ups == other._ups
@@ -79,48 +70,25 @@ class Lot:
         return [(low, high) for low, above in enumerate(self._ups) for high in above]
 
     def is_above(self, high, low):
-        return high in self._ups[low]
-
-    def links(self, ranks):
-        """Links by which the tops have the least sum: the heavy things are linked ahead of the light ones.
-
-        Among things of equal weight those go ahead for which ranks, a list, has less.
-        """
-        order = sorted(range(len(self._weights)), key=lambda thing: (-self._weights[thing], ranks[thing]))
-        return linked(order, self._ups)
-
-    def chains_by(self, ranks):
-        """Chains of the least sum. Among things of equal weight those with less in ranks are not tops if possible."""
-        return chains_of(len(self._weights), self.links(ranks))
+        return self._order.is_above(high, low)
 
     def chains(self):
-        return self.chains_by([0] * len(self._weights))
-
-    def sum_of_tops(self, chains):
-        return sum([self._weights[chain[-1]] for chain in chains])
+        return self._order.chains()
 
     def least_sum(self):
-        return self.sum_of_tops(self.chains())
+        return self._order.least()[1]
 
     def width(self):
-        return len(self.chains())
+        return self._order.least()[0]
 
     def levels(self):
-        """The chains have just W(t) tops that weigh at least t at every level t."""
-        tops = [self._weights[chain[-1]] for chain in self.chains()]
-        return [(level, len([top for top in tops if top >= level])) for level in levels_of(self._weights)]
-
-    def apart_lists(self, levels):
-        """For each of levels a list of as many things as possible that weigh as much and are apart."""
-        links = self.links([0] * len(self._weights))
-        heavy = [[thing for thing, weight in enumerate(self._weights) if weight >= level] for level in levels]
-        return [apart_among(things, self._ups, links) for things in heavy]
+        return self._order.counts()
 
     def apart_from(self, level):
-        return self.apart_lists([level])[0]
+        return self._order.apart_from(level)
 
     def paper(self):
-        return self.chains(), self.apart_lists(levels_of(self._weights))
+        return self._order.paper()
 
     def is_chain(self, thing):
         """Whether any value is a list, not empty, of numbers, each next thing being above the one ahead."""
@@ -137,23 +105,20 @@ class Lot:
         return sorted([one for chain in thing for one in chain]) == list(range(len(self._weights)))
 
     def is_chains(self, thing):
-        return self.are_chains(thing) and self.sum_of_tops(thing) == self.least_sum()
+        return self.are_chains(thing) and self._order.sum_of_tops(thing) == self.least_sum()
 
-    def is_apart_list(self, thing, level):
-        """Whether any value is an ascending list of things that weigh at least level and are apart."""
+    def is_row(self, thing):
+        """Whether any value is an ascending list of different things."""
         if not isinstance(thing, list) or not all([is_number(one, len(self._weights)) for one in thing]):
             return False
-        if not is_ascending(thing) or not all([self._weights[one] >= level for one in thing]):
-            return False
-        return not any([self.is_above(high, low) for low in thing for high in thing])
+        return is_ascending(thing)
 
     def is_paper(self, thing):
         if not isinstance(thing, tuple) or len(thing) != 2:
             return False
         chains, lists = thing
-        levels = levels_of(self._weights)
-        if not self.are_chains(chains) or not isinstance(lists, list) or len(lists) != len(levels):
+        if not self.are_chains(chains) or not is_for_each(lists, self._order.levels()):
             return False
-        if not all([self.is_apart_list(one, level) for one, level in zip(lists, levels)]):
+        if not all([self.is_row(one) for one in lists]):
             return False
-        return self.sum_of_tops(chains) == sum_of_steps(levels, [len(one) for one in lists])
+        return self._order.proves(self._order.sum_of_tops(chains), lists)

@@ -12,15 +12,20 @@ def asking(*columns, last=""):
     return tuple(sorted(columns)), last
 
 
-def columns_of(question):
+def row_of(question):
+    """The columns of question, those that are asked by equality ahead of last."""
     columns, last = question
     if last == "":
         return columns
-    return tuple(sorted([*columns, last]))
+    return *columns, last
+
+
+def columns_of(question):
+    return tuple(sorted(row_of(question)))
 
 
 def width(question):
-    return len(columns_of(question))
+    return len(row_of(question))
 
 
 def is_plain(question):
@@ -28,7 +33,7 @@ def is_plain(question):
 
 
 def is_below(one, other):
-    return one != other and len(set(columns_of(one)) - set(other[0])) == 0
+    return one != other and len(set(row_of(one)) - set(other[0])) == 0
 
 
 def can_share(one, other):

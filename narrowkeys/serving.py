@@ -11,7 +11,14 @@ def servers(shelf, question):
 
 
 def is_served(shelf, question):
-    return len(servers(shelf, question)) > 0
+    for index in shelf:
+        if serves(index, question):
+            return True
+    return False
+
+
+def serves_all(shelf, asked):
+    return all([is_served(shelf, question) for question in asked])
 
 
 def place_of(shelf, question):

@@ -1,14 +1,14 @@
 """Weights of the columns."""
 
 from narrowkeys.errors import NoColumn, Unfit, Wrong
-from narrowkeys.questions import columns_of
+from narrowkeys.questions import row_of
 from narrowkeys.words import is_column, is_weight
 
 
 def columns_in(thing):
-    """The columns of a question or an index."""
+    """The columns of a question or an index, each once."""
     if isinstance(thing[0], tuple):
-        return columns_of(thing)
+        return row_of(thing)
     return thing
 
 
@@ -52,7 +52,7 @@ class Weights:
             self._table[at] = worth
 
     def __call__(self, thing):
-        return sum([self[column] for column in columns_in(thing)])
+        return sum([self._table.get(column, 1) for column in columns_in(thing)])
 
     def table(self):
         return {column: self._table[column] for column in sorted(self._table)}

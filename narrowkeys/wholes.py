@@ -4,7 +4,7 @@ Such an index has just the columns of the greatest question that it serves, the 
 questions of equal weight it is free which ones are linked first: those behind them are rather tops.
 """
 
-from narrowkeys.laid import lot_of, shelf_of
+from narrowkeys.laid import order_of, shelf_of
 from narrowkeys.questions import columns_of
 
 
@@ -23,33 +23,34 @@ def ranks_of(many, ahead, behind):
     return ranks
 
 
-def linked_first(lot, wholes):
+def linked_first(order, many, wholes):
     """Those of wholes that are no tops if they are linked ahead of what weighs as much, in their order."""
-    links = lot.links(ranks_of(len(lot), wholes, []))
+    links = order.links(ranks_of(many, wholes, []))
     return [number for number in wholes if number in links]
 
 
-def linked_last(lot, wholes):
+def linked_last(order, many, wholes):
     """Those of wholes that are no tops even if they are linked behind all that weighs as much."""
-    links = lot.links(ranks_of(len(lot), [], wholes))
+    links = order.links(ranks_of(many, [], wholes))
     return [number for number in wholes if number in links]
 
 
-def range_of(lot, wholes):
-    most_linked, least_linked = linked_first(lot, wholes), linked_last(lot, wholes)
+def range_of(order, many, wholes):
+    """The least and the greatest number of tops among wholes, order being one of so many questions."""
+    most_linked, least_linked = linked_first(order, many, wholes), linked_last(order, many, wholes)
     return len(wholes) - len(most_linked), len(wholes) - len(least_linked)
 
 
 def whole_range(asked, columns, *, weights=None):
-    return range_of(lot_of(asked, weights), wholes_of(asked, columns))
+    return range_of(order_of(asked, weights), len(asked), wholes_of(asked, columns))
 
 
 def ranges(asked, weights):
     """Tuples (columns, least, most) for all columns of questions of asked, ascending."""
-    lot = lot_of(asked, weights)
+    order = order_of(asked, weights)
     found = []
     for columns in sorted({columns_of(question) for question in asked}):
-        least, most = range_of(lot, wholes_of(asked, columns))
+        least, most = range_of(order, len(asked), wholes_of(asked, columns))
         found.append((columns, least, most))
     return found
 
@@ -63,15 +64,15 @@ def maybe_wholes(asked, *, weights=None):
 
 
 def shelf_with(asked, columns, many, *, weights=None):
-    lot = lot_of(asked, weights)
+    order, total = order_of(asked, weights), len(asked)
     wholes = wholes_of(asked, columns)
-    least, most = range_of(lot, wholes)
+    least, most = range_of(order, total, wholes)
     if not least <= many <= most:
         return None
     # Those that are linked even behind the others go first of all. With them the others of this weight
     # give all further links that there can be, so that what is put behind the others is not linked.
-    needed = linked_last(lot, wholes)
-    row = linked_first(lot, [*needed, *[number for number in wholes if number not in needed]])
+    needed = linked_last(order, total, wholes)
+    row = linked_first(order, total, [*needed, *[number for number in wholes if number not in needed]])
     ahead = row[:len(wholes) - many]
     behind = [number for number in wholes if number not in ahead]
-    return shelf_of(asked, lot.chains_by(ranks_of(len(lot), ahead, behind)))
+    return shelf_of(asked, order.chains_by(ranks_of(total, ahead, behind)))

@@ -11,10 +11,15 @@ def is_integer(thing):
     return isinstance(thing, int) and not isinstance(thing, bool)
 
 
+def is_number(thing, many):
+    """Whether thing, any value, is the number of one of so many things."""
+    return is_integer(thing) and 0 <= thing < many
+
+
 def is_column(thing):
     if not isinstance(thing, str) or not 1 <= len(thing) <= LONGEST_COLUMN:
         return False
-    return all(["a" <= letter <= "z" for letter in thing])
+    return thing.isascii() and thing.isalpha() and thing.islower()
 
 
 def are_different_columns(things):
@@ -25,7 +30,12 @@ def are_different_columns(things):
 def are_columns(thing):
     if not isinstance(thing, tuple) or not all([is_column(one) for one in thing]):
         return False
-    return all([one < other for one, other in zip(thing, thing[1:])])
+    return is_ascending(thing)
+
+
+def is_ascending(things):
+    """Whether things, all of one kind, stand in ascending order, each once."""
+    return all([one < other for one, other in zip(things, things[1:])])
 
 
 def is_empty(thing):

@@ -24,7 +24,7 @@ BARRED_NAMES = set(
 METHODS = set(
     "append clear copy count endswith extend find get index insert isalnum isalpha isdigit islower isspace isupper "
     "items join keys ljust lower lstrip partition pop remove replace reverse rfind rjust rpartition rsplit rstrip "
-    "setdefault split splitlines startswith strip update upper values zfill bit_length add discard".split()
+    "setdefault isascii split splitlines startswith strip update upper values zfill bit_length add discard".split()
 )
 BARRED_NODES = (
     ast.Global, ast.AsyncFunctionDef, ast.Await, ast.Div, ast.MatMult, ast.AnnAssign, ast.TypeIgnore,

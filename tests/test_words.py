@@ -33,6 +33,9 @@ class WordsTest(unittest.TestCase):
             for text in (sign + "a", "a" + sign, "a" + sign + "b"):
                 self.assertIs(is_column(text), sign in letters, text)
 
+    def test_letters_of_other_scripts_are_none(self):
+        self.tells(is_column, [], [sign + rest for sign in "\u00e9\u00aa\u0430\uff41\u0131" for rest in ("", "a")])
+
     def test_are_columns(self):
         many = tuple(sorted({f"{one}{other}" for one in "abcdefgh" for other in "abcdefgh"}))
         yes = [(), ("a",), ("a", "b"), ("a", "aa", "b"), ("abcdefgh",), many, tuple("abcdefghijkl")]
