@@ -42,6 +42,21 @@ def most_apart(questions):
     return max(len(part) for part in subsets(questions) if lie_apart(part))
 
 
+def mask_of(index, questions):
+    """A number that has a bit for each of questions that index serves."""
+    return sum(1 << at for at, question in enumerate(questions) if fits(index, question))
+
+
+def cheapest(start, choices):
+    """The least sum of prices for each mask, if any of choices, tuples (mask, price), are put to masks in start."""
+    best = dict(start)
+    for mask, price in choices:
+        for served, paid in list(best.items()):
+            key = served | mask
+            best[key] = min(best.get(key, paid + price), paid + price)
+    return best
+
+
 def costs_of_shelves(questions, columns, price, counted=()):
     """The least price of a list of indexes over columns that serves all of questions.
 
@@ -49,7 +64,7 @@ def costs_of_shelves(questions, columns, price, counted=()):
     """
     best = {(0, 0): 0}
     for index in all_indexes(columns):
-        mask = sum(1 << at for at, question in enumerate(questions) if fits(index, question))
+        mask = mask_of(index, questions)
         more = 1 if sorted(index) == sorted(counted) else 0
         for (served, many), paid in list(best.items()):
             key = served | mask, many + more
@@ -76,6 +91,15 @@ def some_tables(many, columns="abc", seed=6):
     chance = random.Random(seed)
     for _ in range(many):
         yield {column: chance.choice([1, 2, 3, 5, 10 ** 30]) for column in columns if chance.random() < 0.8}
+
+
+def some_shelves(many, most, columns="abc", seed=7):
+    """Lists of indexes, the same ones in each run; the first one is empty."""
+    chance = random.Random(seed)
+    indexes = all_indexes(columns)
+    yield []
+    for _ in range(many):
+        yield [chance.choice(indexes) for _ in range(chance.randrange(most + 1))]
 
 
 def some_orders(many, most, seed=8):
