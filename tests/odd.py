@@ -4,7 +4,9 @@ import random
 from itertools import combinations, permutations
 
 import narrowkeys.errors as errors
+from narrowkeys.advisor import Advisor
 from narrowkeys.asked import Asked
+from narrowkeys.desk import Desk
 from narrowkeys.lots import Lot
 from narrowkeys.shelves import Shelf
 from narrowkeys.weights import Weights
@@ -44,6 +46,7 @@ def odd_values():
         (Shelf([]), ""), ((), Shelf([])), ((Shelf([]),), "a"), (Same(), ""), ((), Same()), ((Same(),), "a"),
         Lot([], []), Lot([1], []), Lot, [Lot([1], [])], (Lot([1], []), ""), ([], Lot([], [])), [[Lot([1], [])]],
         Weights({}), Weights({"a": 2}), Weights, [Weights({})], ((), Weights({})), {"a": Weights({})}, ("a", Weights({})),
+        Advisor(Asked([]), Shelf([])), Advisor, Desk(), Desk, (Desk(), ""), [Advisor(Asked([]), Shelf([]))],
         deep("a"), deep(("a",)), deep([]), deep(Same()), (deep("a", 36), ""), ((), deep("a", 36)),
         ((deep("a", 36),), "a"), [0] * 19999, tuple(range(19999)), (tuple(range(19990)), "a"),
     ]

@@ -53,6 +53,36 @@ FUNCTIONS = {
         "whole_range": "(asked, columns, *, weights=None)", "sure_wholes": "(asked, *, weights=None)",
         "maybe_wholes": "(asked, *, weights=None)", "shelf_with": "(asked, columns, many, *, weights=None)",
     },
+    "changes": {
+        "added": "(asked, question, *, weights=None)", "saved": "(asked, question, *, weights=None)",
+    },
+    "everything": {
+        "all_questions": "(columns, *, plain=False)", "fewest_for": "(many, *, plain=False)",
+        "width_for": "(many, *, plain=False)", "levels_for": "(many, *, plain=False)",
+    },
+    "standing": {
+        "least_more": "(asked, standing, *, weights=None)", "more_shelf": "(asked, standing, *, weights=None)",
+        "is_more": "(asked, standing, thing, *, weights=None)",
+    },
+    "longer": {
+        "least_added": "(asked, standing, *, weights=None)", "led_on": "(asked, standing, *, weights=None)",
+        "led_paper": "(asked, standing, *, weights=None)",
+        "is_led_on": "(asked, standing, thing, *, weights=None)",
+        "is_led_paper": "(asked, standing, thing, *, weights=None)",
+    },
+    "short": {
+        "least_alike": "(shelf, *, weights=None)", "short_alike": "(shelf, *, weights=None)",
+        "short_paper": "(shelf, *, weights=None)", "is_short": "(shelf, thing, *, weights=None)",
+        "is_short_paper": "(shelf, thing, *, weights=None)",
+    },
+    "notation": {
+        "show_question": "(question)", "show_index": "(index)", "show_asked": "(asked)", "show_shelf": "(shelf)",
+        "show_weights": "(weights)",
+    },
+    "readers": {
+        "read_question": "(text)", "read_index": "(text)", "read_asked": "(text)", "read_shelf": "(text)",
+        "read_weights": "(text)",
+    },
 }
 
 METHODS = {
@@ -77,6 +107,12 @@ METHODS = {
         "__init__": "(self, table)", "__eq__": None, "__getitem__": None, "__setitem__": None,
         "__call__": "(self, thing)", "table": "(self)", "copied": "(self)",
     },
+    ("advisor", "Advisor"): {
+        "__init__": "(self, asked, shelf)", "__eq__": None, "__len__": None, "weights": "(self)", "unserved": "(self)",
+        "advice": "(self)", "deeds": "(self)", "do": "(self, deed)", "back": "(self)", "again": "(self)",
+        "past": "(self, many)", "copied": "(self)", "trial": "(self, act)",
+    },
+    ("desk", "Desk"): {"__init__": "(self)", "execute": "(self, line)"},
 }
 
 ERRORS = {
@@ -103,6 +139,11 @@ class InterfaceTest(unittest.TestCase):
                 self.assertIn(method, vars(found))
                 if signature is not None:
                     self.assertEqual(signature, str(inspect.signature(vars(found)[method])), method)
+
+    def test_the_properties_and_the_class_value_of_an_advisor(self):
+        found = vars(importlib.import_module("narrowkeys.advisor").Advisor)
+        self.assertEqual([property, property], [type(found["asked"]), type(found["shelf"])])
+        self.assertEqual([200, int], [found["MOST"], type(found["MOST"])])
 
     def test_errors_take_their_arguments(self):
         module = importlib.import_module("narrowkeys.errors")
